@@ -1,0 +1,108 @@
+package tests
+
+import (
+	"go/ast"
+	"go/parser"
+	"go/token"
+	"path/filepath"
+	"slices"
+	"strings"
+	"testing"
+)
+
+// allowedImports are those of the language page.
+var allowedImports = strings.Fields("bytes cmp container/heap errors iter maps math math/bits slices sort strconv strings sync sync/atomic unicode unicode/utf8")
+
+// layers are the files of the program, by name.
+func layers(t *testing.T, fset *token.FileSet) map[string]*ast.File {
+	t.Helper()
+	names, err := filepath.Glob("../impl/*.go")
+	if err != nil || len(names) == 0 {
+		t.Fatal("the program is not there", err)
+	}
+	all := map[string]*ast.File{}
+	for _, name := range names {
+		f, err := parser.ParseFile(fset, name, nil, parser.ParseComments)
+		if err != nil {
+			t.Fatal(err)
+		}
+		all[filepath.Base(name)] = f
+	}
+	return all
+}
+
+func TestTheProgramKeepsToItsLanguage(t *testing.T) {
+	fset := token.NewFileSet()
+	for name, f := range layers(t, fset) {
+		for _, i := range f.Imports {
+			if !slices.Contains(allowedImports, strings.Trim(i.Path.Value, `"`)) {
+				t.Errorf("%s imports %s", name, i.Path.Value)
+			}
+		}
+		for _, group := range f.Comments {
+			for _, c := range group.List {
+				if strings.HasPrefix(c.Text, "//go:") || strings.HasPrefix(c.Text, "// +build") {
+					t.Errorf("%s has the line %s", name, c.Text)
+				}
+			}
+		}
+		for _, d := range f.Decls {
+			lines := fset.Position(d.End()).Line - fset.Position(d.Pos()).Line + 1
+			if fd, ok := d.(*ast.FuncDecl); ok && lines > 60 {
+				t.Errorf("%s: %s has %d lines", name, fd.Name.Name, lines)
+			}
+		}
+	}
+}
+
+// intTypes are the names of types of a file that are made of int.
+func intTypes(f *ast.File) []string {
+	var names []string
+	ast.Inspect(f, func(n ast.Node) bool {
+		if s, ok := n.(*ast.TypeSpec); ok && !s.Assign.IsValid() {
+			if of, ok := s.Type.(*ast.Ident); ok && of.Name == "int" {
+				names = append(names, s.Name.Name)
+			}
+		}
+		return true
+	})
+	return names
+}
+
+// tellsOneByOne says whether a function answers an iterator.
+func tellsOneByOne(d *ast.FuncDecl) bool {
+	if d.Type.Results == nil || len(d.Type.Results.List) != 1 {
+		return false
+	}
+	of, ok := d.Type.Results.List[0].Type.(*ast.IndexExpr)
+	if !ok {
+		return false
+	}
+	sel, ok := of.X.(*ast.SelectorExpr)
+	return ok && sel.Sel.Name == "Seq"
+}
+
+func TestWaysOfAddresses(t *testing.T) {
+	f := layers(t, token.NewFileSet())["l1_addr.go"]
+	if f == nil {
+		t.Fatal("there is no first layer")
+	}
+	methods, iterators := 0, 0
+	for _, d := range f.Decls {
+		fd, ok := d.(*ast.FuncDecl)
+		if !ok || fd.Recv == nil {
+			continue
+		}
+		of, ok := fd.Recv.List[0].Type.(*ast.Ident)
+		if !ok || !slices.Contains(intTypes(f), of.Name) {
+			continue
+		}
+		methods++
+		if tellsOneByOne(fd) {
+			iterators++
+		}
+	}
+	if methods == 0 || iterators == 0 {
+		t.Fatalf("of addresses there are %d methods, and %d of these tell a burst one by one", methods, iterators)
+	}
+}
