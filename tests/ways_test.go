@@ -106,3 +106,24 @@ func TestWaysOfAddresses(t *testing.T) {
 		t.Fatalf("of addresses there are %d methods, and %d of these tell a burst one by one", methods, iterators)
 	}
 }
+
+// Lanes are bits: the second layer takes one by a shift, and keeps bytes by masks, not by sums and rests.
+func TestWaysOfWords(t *testing.T) {
+	f := layers(t, token.NewFileSet())["l2_word.go"]
+	if f == nil {
+		t.Fatal("there is no second layer")
+	}
+	uses := map[token.Token]int{}
+	ast.Inspect(f, func(n ast.Node) bool {
+		if b, ok := n.(*ast.BinaryExpr); ok {
+			uses[b.Op]++
+		}
+		return true
+	})
+	if uses[token.SHL] == 0 || uses[token.SHR] == 0 || uses[token.AND] == 0 || uses[token.OR] == 0 {
+		t.Errorf("lanes are taken without shifts and masks: %v", uses)
+	}
+	if uses[token.REM] != 0 || uses[token.QUO] != 0 {
+		t.Errorf("bytes are taken by rests: %v", uses)
+	}
+}
