@@ -127,3 +127,77 @@ func TestWaysOfWords(t *testing.T) {
 		t.Errorf("bytes are taken by rests: %v", uses)
 	}
 }
+
+// interfacesOf are the interfaces of a file, by name, each with the names of its methods and what these take.
+func interfacesOf(f *ast.File) map[string]map[string]string {
+	all := map[string]map[string]string{}
+	ast.Inspect(f, func(n ast.Node) bool {
+		s, ok := n.(*ast.TypeSpec)
+		if !ok {
+			return true
+		}
+		of, ok := s.Type.(*ast.InterfaceType)
+		if !ok {
+			return true
+		}
+		all[s.Name.Name] = map[string]string{}
+		for _, m := range of.Methods.List {
+			if ft, ok := m.Type.(*ast.FuncType); ok && len(m.Names) == 1 {
+				all[s.Name.Name][m.Names[0].Name] = onlyParam(ft)
+			}
+		}
+		return true
+	})
+	return all
+}
+
+// onlyParam is the name of the type of the one thing that a function takes; empty, if it is not so.
+func onlyParam(ft *ast.FuncType) string {
+	if len(ft.Params.List) != 1 {
+		return ""
+	}
+	of, ok := ft.Params.List[0].Type.(*ast.Ident)
+	if !ok {
+		return ""
+	}
+	return of.Name
+}
+
+// receiversOf are the types of a file that have a method of that name which takes that.
+func receiversOf(f *ast.File, name string, takes string) []string {
+	var all []string
+	for _, d := range f.Decls {
+		fd, ok := d.(*ast.FuncDecl)
+		if !ok || fd.Recv == nil || fd.Name.Name != name || onlyParam(fd.Type) != takes {
+			continue
+		}
+		if of, ok := fd.Recv.List[0].Type.(*ast.Ident); ok {
+			all = append(all, of.Name)
+		}
+	}
+	return all
+}
+
+// Each kind is a type behind one interface, whose method takes a visitor: an interface with a method for each of these types.
+func TestWaysOfWhatIsAsked(t *testing.T) {
+	f := layers(t, token.NewFileSet())["l3_req.go"]
+	if f == nil {
+		t.Fatal("there is no third layer")
+	}
+	all := interfacesOf(f)
+	for _, methods := range all {
+		for name, visitor := range methods {
+			kinds := receiversOf(f, name, visitor)
+			var seen []string
+			for _, kind := range all[visitor] {
+				seen = append(seen, kind)
+			}
+			slices.Sort(kinds)
+			slices.Sort(seen)
+			if len(kinds) == 4 && slices.Equal(kinds, seen) {
+				return
+			}
+		}
+	}
+	t.Fatalf("no interface has the four kinds behind it, and a visitor for each: %v", all)
+}
