@@ -201,3 +201,49 @@ func TestWaysOfWhatIsAsked(t *testing.T) {
 	}
 	t.Fatalf("no interface has the four kinds behind it, and a visitor for each: %v", all)
 }
+
+// structsOf are the structs of a file, by name.
+func structsOf(f *ast.File) map[string]*ast.StructType {
+	all := map[string]*ast.StructType{}
+	ast.Inspect(f, func(n ast.Node) bool {
+		if s, ok := n.(*ast.TypeSpec); ok {
+			if of, ok := s.Type.(*ast.StructType); ok {
+				all[s.Name.Name] = of
+			}
+		}
+		return true
+	})
+	return all
+}
+
+// What is held is a map whose keys are compared, a store is an array; both stand in a type of the fourth layer, and none at package level.
+func TestWaysOfOneThingAtOnce(t *testing.T) {
+	f := layers(t, token.NewFileSet())["l4_atom.go"]
+	if f == nil {
+		t.Fatal("there is no fourth layer")
+	}
+	structs := structsOf(f)
+	maps, arrays := 0, 0
+	for _, s := range structs {
+		for _, field := range s.Fields.List {
+			switch of := field.Type.(type) {
+			case *ast.MapType:
+				if key, ok := of.Key.(*ast.Ident); ok && structs[key.Name] != nil {
+					maps++
+				}
+			case *ast.ArrayType:
+				if of.Len != nil {
+					arrays++
+				}
+			}
+		}
+	}
+	if maps == 0 || arrays == 0 {
+		t.Errorf("there are %d maps by holders, and %d arrays", maps, arrays)
+	}
+	for _, d := range f.Decls {
+		if g, ok := d.(*ast.GenDecl); ok && g.Tok == token.VAR {
+			t.Error("the fourth layer keeps something between two calls")
+		}
+	}
+}
