@@ -247,3 +247,68 @@ func TestWaysOfOneThingAtOnce(t *testing.T) {
 		}
 	}
 }
+
+// methodsNamed are the types of a file that have a method of that name.
+func methodsNamed(f *ast.File, name string) []string {
+	var all []string
+	for _, d := range f.Decls {
+		fd, ok := d.(*ast.FuncDecl)
+		if !ok || fd.Recv == nil || fd.Name.Name != name {
+			continue
+		}
+		of := fd.Recv.List[0].Type
+		if star, ok := of.(*ast.StarExpr); ok {
+			of = star.X
+		}
+		if id, ok := of.(*ast.Ident); ok {
+			all = append(all, id.Name)
+		}
+	}
+	return all
+}
+
+// Jobs are kept in a list of a generic type, which is not just for jobs; what may not happen is an error of a type with a number, asked with errors.As.
+func TestWaysOfWhatHappens(t *testing.T) {
+	f := layers(t, token.NewFileSet())["l5_tlm.go"]
+	if f == nil {
+		t.Fatal("there is no fifth layer")
+	}
+	var generic []string
+	lists, asks := 0, 0
+	ast.Inspect(f, func(n ast.Node) bool {
+		if s, ok := n.(*ast.TypeSpec); ok && s.TypeParams != nil {
+			generic = append(generic, s.Name.Name)
+		}
+		return true
+	})
+	ast.Inspect(f, func(n ast.Node) bool {
+		switch x := n.(type) {
+		case *ast.Field:
+			if of, ok := x.Type.(*ast.IndexExpr); ok {
+				list, isName := of.X.(*ast.Ident)
+				job, isJob := of.Index.(*ast.Ident)
+				if isName && isJob && slices.Contains(generic, list.Name) && job.Name == "TlmJob" {
+					lists++
+				}
+			}
+		case *ast.SelectorExpr:
+			if of, ok := x.X.(*ast.Ident); ok && of.Name == "errors" && x.Sel.Name == "As" {
+				asks++
+			}
+		}
+		return true
+	})
+	codes := 0
+	for _, name := range methodsNamed(f, "Error") {
+		if s := structsOf(f)[name]; s != nil {
+			for _, field := range s.Fields.List {
+				if of, ok := field.Type.(*ast.Ident); ok && of.Name == "int" {
+					codes++
+				}
+			}
+		}
+	}
+	if lists == 0 || asks == 0 || codes == 0 {
+		t.Fatalf("jobs are in %d lists of a generic type; there are %d errors with a code, asked %d times", lists, codes, asks)
+	}
+}
