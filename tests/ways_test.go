@@ -312,3 +312,42 @@ func TestWaysOfWhatHappens(t *testing.T) {
 		t.Fatalf("jobs are in %d lists of a generic type; there are %d errors with a code, asked %d times", lists, codes, asks)
 	}
 }
+
+// Each who asks, and each store, is a machine: a type of the sixth layer that a desk has as many of as there are, with a method for each half of a cycle.
+func TestWaysOfCycles(t *testing.T) {
+	f := layers(t, token.NewFileSet())["l6_cyc.go"]
+	if f == nil {
+		t.Fatal("there is no sixth layer")
+	}
+	second := methodsNamed(f, "secondHalf")
+	var machines []string
+	for _, name := range methodsNamed(f, "firstHalf") {
+		if slices.Contains(second, name) && structsOf(f)[name] != nil {
+			machines = append(machines, name)
+		}
+	}
+	if len(machines) != 2 {
+		t.Fatalf("there are the machines %v, and not one for who asks, and one for a store", machines)
+	}
+	kept := map[string]int{}
+	for _, s := range structsOf(f) {
+		for _, field := range s.Fields.List {
+			list, ok := field.Type.(*ast.ArrayType)
+			if !ok {
+				continue
+			}
+			of := list.Elt
+			if star, ok := of.(*ast.StarExpr); ok {
+				of = star.X
+			}
+			if id, ok := of.(*ast.Ident); ok {
+				kept[id.Name]++
+			}
+		}
+	}
+	for _, name := range machines {
+		if kept[name] == 0 {
+			t.Errorf("no desk keeps the machines %s", name)
+		}
+	}
+}
