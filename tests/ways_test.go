@@ -351,3 +351,58 @@ func TestWaysOfCycles(t *testing.T) {
 		}
 	}
 }
+
+// takesWhatHappens says whether a function takes just one thing that happens, and answers nothing.
+func takesWhatHappens(ft *ast.FuncType) bool {
+	return onlyParam(ft) == "TlmEvent" && (ft.Results == nil || len(ft.Results.List) == 0)
+}
+
+// callbacksOf are the names of types of a file that are functions which take what happens.
+func callbacksOf(f *ast.File) []string {
+	var all []string
+	ast.Inspect(f, func(n ast.Node) bool {
+		if s, ok := n.(*ast.TypeSpec); ok {
+			if ft, ok := s.Type.(*ast.FuncType); ok && takesWhatHappens(ft) {
+				all = append(all, s.Name.Name)
+			}
+		}
+		return true
+	})
+	return all
+}
+
+// What happens is told by a callback: a cycle, and both halves of a machine that asks, take one; the seventh layer hands one in.
+func TestWaysOfWhatHappensInCycles(t *testing.T) {
+	all := layers(t, token.NewFileSet())
+	cycles, happens := all["l6_cyc.go"], all["l7_ref.go"]
+	if cycles == nil || happens == nil {
+		t.Fatal("there is no sixth, or no seventh, layer")
+	}
+	names := callbacksOf(cycles)
+	takers := map[string]int{}
+	for _, d := range cycles.Decls {
+		fd, ok := d.(*ast.FuncDecl)
+		if !ok {
+			continue
+		}
+		for _, p := range fd.Type.Params.List {
+			if of, ok := p.Type.(*ast.Ident); ok && slices.Contains(names, of.Name) {
+				takers[fd.Name.Name]++
+			}
+		}
+	}
+	given := 0
+	ast.Inspect(happens, func(n ast.Node) bool {
+		if call, ok := n.(*ast.CallExpr); ok {
+			for _, arg := range call.Args {
+				if lit, ok := arg.(*ast.FuncLit); ok && takesWhatHappens(lit.Type) {
+					given++
+				}
+			}
+		}
+		return true
+	})
+	if takers["cycle"] != 1 || takers["firstHalf"] != 2 || takers["secondHalf"] != 1 || given == 0 {
+		t.Fatalf("a callback is taken by %v, and handed in %d times", takers, given)
+	}
+}
