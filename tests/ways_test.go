@@ -406,3 +406,74 @@ func TestWaysOfWhatHappensInCycles(t *testing.T) {
 		t.Fatalf("a callback is taken by %v, and handed in %d times", takers, given)
 	}
 }
+
+// scannersOf are the structs of a file that keep an error, each with the name of the field that does.
+func scannersOf(f *ast.File) map[string]string {
+	all := map[string]string{}
+	for name, s := range structsOf(f) {
+		for _, field := range s.Fields.List {
+			if of, ok := field.Type.(*ast.Ident); ok && of.Name == "error" && len(field.Names) == 1 {
+				all[name] = field.Names[0].Name
+			}
+		}
+	}
+	return all
+}
+
+// fieldIs says whether something is a field of that name.
+func fieldIs(e ast.Expr, name string) bool {
+	sel, ok := e.(*ast.SelectorExpr)
+	return ok && sel.Sel.Name == name
+}
+
+// keepsIn is how often a field of that name is turned in a part of a file.
+func keepsIn(n ast.Node, field string) int {
+	many := 0
+	ast.Inspect(n, func(n ast.Node) bool {
+		if set, ok := n.(*ast.AssignStmt); ok {
+			for _, to := range set.Lhs {
+				if fieldIs(to, field) {
+					many++
+				}
+			}
+		}
+		return true
+	})
+	return many
+}
+
+// keepsFirst is how often that is done just where there is none yet.
+func keepsFirst(n ast.Node, field string) int {
+	many := 0
+	ast.Inspect(n, func(n ast.Node) bool {
+		branch, ok := n.(*ast.IfStmt)
+		if !ok {
+			return true
+		}
+		if cond, ok := branch.Cond.(*ast.BinaryExpr); ok && cond.Op == token.EQL && fieldIs(cond.X, field) {
+			many += keepsIn(branch.Body, field)
+		}
+		return true
+	})
+	return many
+}
+
+// Words are read by a scanner: a type of the eighth layer that reads them by methods, and keeps an error just where it has none yet.
+func TestWaysOfLines(t *testing.T) {
+	f := layers(t, token.NewFileSet())["l8_desk.go"]
+	if f == nil {
+		t.Fatal("there is no eighth layer")
+	}
+	all := scannersOf(f)
+	if len(all) != 1 {
+		t.Fatalf("there are the scanners %v", all)
+	}
+	for name, field := range all {
+		if keepsIn(f, field) == 0 || keepsIn(f, field) != keepsFirst(f, field) {
+			t.Errorf("the scanner %s keeps an error %d times, the first one %d times", name, keepsIn(f, field), keepsFirst(f, field))
+		}
+		if words := methodsNamed(f, "word"); !slices.Contains(words, name) {
+			t.Errorf("the scanner %s reads no words; these do: %v", name, words)
+		}
+	}
+}
