@@ -477,3 +477,54 @@ func TestWaysOfLines(t *testing.T) {
 		}
 	}
 }
+
+// callsOf is how often functions of a package are called in a file, by name.
+func callsOf(f *ast.File, from string) map[string]int {
+	all := map[string]int{}
+	ast.Inspect(f, func(n ast.Node) bool {
+		if call, ok := n.(*ast.CallExpr); ok {
+			if sel, ok := call.Fun.(*ast.SelectorExpr); ok {
+				if of, ok := sel.X.(*ast.Ident); ok && of.Name == from {
+					all[sel.Sel.Name]++
+				}
+			}
+		}
+		return true
+	})
+	return all
+}
+
+// isListOfLists says whether a type is that of places by places.
+func isListOfLists(of ast.Expr) bool {
+	outer, ok := of.(*ast.ArrayType)
+	if !ok {
+		return false
+	}
+	_, ok = outer.Elt.(*ast.ArrayType)
+	return ok
+}
+
+// What is not apart is a graph: a type of the ninth layer that keeps, of each thing, a list; what is free is a type that is a heap, and is put in, and taken from, as one.
+func TestWaysOfOtherOrders(t *testing.T) {
+	f := layers(t, token.NewFileSet())["l9_trace.go"]
+	if f == nil {
+		t.Fatal("there is no ninth layer")
+	}
+	graphs := 0
+	for _, s := range structsOf(f) {
+		for _, field := range s.Fields.List {
+			if isListOfLists(field.Type) {
+				graphs++
+			}
+		}
+	}
+	heaps := methodsNamed(f, "Less")
+	for _, name := range []string{"Len", "Swap", "Push", "Pop"} {
+		have := methodsNamed(f, name)
+		heaps = slices.DeleteFunc(heaps, func(of string) bool { return !slices.Contains(have, of) })
+	}
+	calls := callsOf(f, "heap")
+	if graphs == 0 || len(heaps) != 1 || calls["Push"] == 0 || calls["Pop"] == 0 {
+		t.Fatalf("there are %d graphs, and the heaps %v, of which these are called: %v", graphs, heaps, calls)
+	}
+}
