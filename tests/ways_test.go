@@ -528,3 +528,61 @@ func TestWaysOfOtherOrders(t *testing.T) {
 		t.Fatalf("there are %d graphs, and the heaps %v, of which these are called: %v", graphs, heaps, calls)
 	}
 }
+
+// embeddedIn are the names of the types that a struct has embedded.
+func embeddedIn(s *ast.StructType) []string {
+	var all []string
+	for _, field := range s.Fields.List {
+		if of, ok := field.Type.(*ast.Ident); ok && len(field.Names) == 0 {
+			all = append(all, of.Name)
+		}
+	}
+	return all
+}
+
+// ringsOf are the types of a file that are lists of who asks, and not just one as an argument is.
+func ringsOf(f *ast.File) []string {
+	var all []string
+	ast.Inspect(f, func(n ast.Node) bool {
+		if s, ok := n.(*ast.TypeSpec); ok && !s.Assign.IsValid() {
+			if list, ok := s.Type.(*ast.ArrayType); ok && list.Len == nil {
+				if of, ok := list.Elt.(*ast.Ident); ok && of.Name == "bool" {
+					all = append(all, s.Name.Name)
+				}
+			}
+		}
+		return true
+	})
+	return all
+}
+
+// Counts are a struct of the tenth layer that is embedded in each machine, be it one who asks or a store; who comes next is told by a ring, a type of who asks with a method for that.
+func TestWaysOfWhatIsCounted(t *testing.T) {
+	all := layers(t, token.NewFileSet())
+	cycles, f := all["l6_cyc.go"], all["l10_count.go"]
+	if cycles == nil || f == nil {
+		t.Fatal("there is no sixth, or no tenth, layer")
+	}
+	counted := map[string]int{}
+	for _, name := range methodsNamed(cycles, "firstHalf") {
+		for _, of := range embeddedIn(structsOf(cycles)[name]) {
+			if structsOf(f)[of] != nil {
+				counted[of]++
+			}
+		}
+	}
+	if len(counted) != 1 {
+		t.Errorf("the machines have these counts embedded: %v", counted)
+	}
+	for name, many := range counted {
+		if many != 2 {
+			t.Errorf("%s is embedded in %d machines", name, many)
+		}
+	}
+	for _, name := range ringsOf(f) {
+		if slices.Contains(methodsNamed(f, "next"), name) {
+			return
+		}
+	}
+	t.Errorf("there are the rings %v, and none tells who is next", ringsOf(f))
+}
